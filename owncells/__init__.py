@@ -1,0 +1,1 @@
+"""Owncells: rounds of loops dealt so that nothing is sent."""
