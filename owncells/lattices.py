@@ -4,7 +4,8 @@ A *tie* is a triple (ONE, OTHER, STEP): each ROUND of the statement ONE meets th
 whose PLACE is its PLACE and STEP together. All ROUNDS that meet do so by ties in a row.
 """
 
-from owncells.matrices import divisors, hermite, images, kernel, plus, reduced, solution
+from owncells.matrices import (
+    coordinates, divisors, hermite, kernel, plus, reduced, solution, tagged, transposed)
 from owncells.programs import is_place, need_lot, need_program, need_statement
 
 
@@ -18,14 +19,14 @@ def ties_by(program, array):
     """A list of ties by one array: the steps between each two references, and those that
     keep the cell of one."""
     matrix = program[1][array]
-    rows = images(matrix)
+    rows = tagged(transposed(matrix))
     keeping = kernel(rows, len(matrix))
     near_and_far = uses(program, array)
     found = []
     for one, near in near_and_far:
         found.extend([(one, one, step) for step in keeping])
         for other, far in near_and_far:
-            step = solution(rows, plus(near, far, -1))
+            step = solution(rows, plus(near, far, -1), program[0])
             if step is not None:
                 found.append((one, other, step))
     return found
@@ -36,18 +37,24 @@ def ties(program, lot):
     return [tie for array in lot for tie in ties_by(program, array)]
 
 
-def spread(program, found, start):
-    """A dict from each statement of the group of start to a PLACE there: its ROUND is tied
-    with that of start at (0, ..)."""
-    places = {start: (0,) * program[0]}
+def chains(program, found, start):
+    """A dict from each statement of the group of start to a CHAIN: ROUNDS from that of
+    start at (0, ..) to one of this statement, each next one meeting the one ahead."""
+    led = {start: ((start, (0,) * program[0]),)}
     waiting = [start]
     while waiting:
         near = waiting.pop()
         for one, other, step in found:
-            if one == near and other not in places:
-                places[other] = plus(places[one], step, 1)
+            if one == near and other not in led:
+                led[other] = led[near] + ((other, plus(led[near][-1][1], step, 1)),)
                 waiting.append(other)
-    return places
+    return led
+
+
+def spread(program, found, start):
+    """A dict from each statement of the group of start to a PLACE there: its ROUND is tied
+    with that of start at (0, ..)."""
+    return {statement: chain[-1][1] for statement, chain in chains(program, found, start).items()}
 
 
 def rings(places, found):
@@ -82,7 +89,9 @@ def basis(program, lot, statement):
 def ways_apart(program, lot, statement):
     """The ways apart of the statement's group: (FREE, FACTORS)."""
     steps = basis(program, lot, statement)
-    return program[0] - len(steps), tuple([part for part in divisors(steps) if part > 1])
+    factors = [factor for factor, _ in coordinates(steps, program[0])]
+    parts = divisors([factor for factor in factors if factor > 0])
+    return program[0] - len(steps), tuple([part for part in parts if part > 1])
 
 
 def is_step(program, lot, statement, place):

@@ -12,6 +12,24 @@ def plus(row, step, times):
     return tuple([part + times * by for part, by in zip(row, step)])
 
 
+def weighted(row, place):
+    """The sum of the row's integers, each times that of the place."""
+    return sum([factor * part for factor, part in zip(row, place)])
+
+
+def multiplied(parts):
+    """The product of integers; 1 of none."""
+    product_of = 1
+    for part in parts:
+        product_of = product_of * part
+    return product_of
+
+
+def units(many):
+    """So many rows, each with 1 at the column of its own number, and 0 elsewhere."""
+    return tuple([tuple([int(column == number) for column in range(many)]) for number in range(many)])
+
+
 def first_column(row):
     """The column of the first integer that is not 0, of a row that has one."""
     column = 0
@@ -65,27 +83,33 @@ def transposed(rows):
     return tuple([tuple([row[column] for row in rows]) for column in range(len(rows[0]))])
 
 
-def images(matrix):
-    """Stepped rows: what the matrix makes of a place, and behind it this place. Their
-    sums of multiples tell all places and what it makes of them."""
-    columns = transposed(matrix)
-    units = [tuple([int(at == own) for at in range(len(columns))]) for own in range(len(columns))]
-    return hermite([column + unit for column, unit in zip(columns, units)])
+def tagged(rows):
+    """Stepped rows: sums of multiples of the rows, and behind each how often each of the
+    rows is taken in it. They tell all sums, and how these are made."""
+    return hermite([row + unit for row, unit in zip(rows, units(len(rows)))])
 
 
 def kernel(rows, many):
-    """A list of places: all that a matrix of many rows with these images makes 0 of are
-    the sums of their multiples."""
+    """A list of all that stands behind the many integers of rows with only 0 among these.
+    (Of tagged rows: how to take the rows so that there is nothing in all.)"""
     return [row[many:] for row in rows if not any(row[:many])]
 
 
-def solution(rows, wanted):
-    """A place of which a matrix with these images makes what is wanted, or None."""
-    many = len(wanted)
-    rest = reduced(wanted + (0,) * (len(rows[0]) - many), rows)
-    if any(rest[:many]):
+def solution(rows, wanted, many):
+    """How often to take each of many rows so that what is wanted comes out, by these rows
+    as they are tagged; None if there is no way."""
+    rest = reduced(wanted + (0,) * many, rows)
+    if any(rest[:len(wanted)]):
         return None
-    return tuple([-part for part in rest[many:]])
+    return tuple([-part for part in rest[len(wanted):]])
+
+
+def agreeing(rows, weights, modulus):
+    """Stepped rows: their sums are all sums of multiples of the rows that give 0 by the
+    weights, or a multiple of the modulus, if that is not 0."""
+    given = [(weighted(weights, row),) + row for row in rows]
+    _, rest = gathered(given + [(modulus,) + (0,) * len(weights)], 0)
+    return hermite([row[1:] for row in rest])
 
 
 def is_diagonal(rows):
@@ -94,14 +118,24 @@ def is_diagonal(rows):
                 for column, part in enumerate(row) if column != number])
 
 
-def divisors(rows):
-    """A list of integers, each a divisor of the next one: beside stepped rows, sums go by
-    remainders by these, and freely otherwise."""
-    # Rows and columns have the same divisors. Each turn makes the integers at the front
-    # divisors of what they were, so the turns end, with nothing beside them.
+def coordinates(rows, many):
+    """A list of pairs (FACTOR, WEIGHTS), one for each of many columns: the sums of stepped
+    rows are all rows that give a multiple of FACTOR by WEIGHTS, for each pair. Rows of any
+    integers give any integers by all WEIGHTS."""
+    weights = units(many)
+    # Each turn makes the integers at the front divisors of what they were, so the turns end.
     while not is_diagonal(rows):
-        rows = hermite(transposed(rows))
-    parts = [row[number] for number, row in enumerate(rows)]
+        turned = hermite([row + by for row, by in zip(transposed(rows), weights)])
+        weights = [row[len(rows):] for row in turned]
+        rows = hermite(transposed([row[:len(rows)] for row in turned]))
+    factors = [row[number] for number, row in enumerate(rows)] + [0] * (many - len(rows))
+    return list(zip(factors, weights))
+
+
+def divisors(factors):
+    """A list of as many integers above 0, each a divisor of the next one, such that
+    remainders by them go as those by the factors."""
+    parts = list(factors)
     for far in range(len(parts)):
         for near in range(far):
             common = gcd(parts[near], parts[far])

@@ -1,6 +1,7 @@
 """PROGRAMS, the CELLS that their ROUNDS touch, and the checks of what is passed."""
 
 from owncells.errors import BadLot, BadNumber, BadProgram, BadRound
+from owncells.matrices import weighted
 
 MOST_DEPTH = 3
 MOST_ROWS = 3
@@ -139,11 +140,6 @@ def need_round(program, round_at):
         raise BadRound(round_at)
 
 
-def weighted(row, place):
-    """The sum of the row's integers, each times that of the place."""
-    return sum([factor * part for factor, part in zip(row, place)])
-
-
 def touched(program, round_at):
     """A list of the CELL that each reference of a ROUND touches, so perhaps alike ones."""
     statement, place = round_at
@@ -162,14 +158,23 @@ def cells(program, round_at):
     return tuple(sorted(set(touched(program, round_at))))
 
 
+def touched_of(program, lot, round_at):
+    """A list of the CELLS of arrays of the LOT among those that a ROUND touches."""
+    return [cell for cell in touched(program, round_at) if cell[0] in lot]
+
+
+def have_common(near, far):
+    """Whether some thing is in both lists."""
+    return any([thing in near for thing in far])
+
+
 def do_meet(program, lot, one, other):
     """Whether both ROUNDS touch some CELL of an array of the LOT."""
     need_program(program)
     need_lot(program, lot)
     need_round(program, one)
     need_round(program, other)
-    near = [cell for cell in touched(program, one) if cell[0] in lot]
-    return any([cell in near for cell in touched(program, other)])
+    return have_common(touched_of(program, lot, one), touched_of(program, lot, other))
 
 
 def written(program):

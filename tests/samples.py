@@ -1,6 +1,7 @@
 """What several tests pass: PROGRAMS, values that are none, and how a refusal is checked."""
 
 import copy
+import inspect
 import itertools
 
 LINE = (1, (((1,),),), (((0, (0,), "write"),),))
@@ -22,6 +23,17 @@ SPACE = (
     (
         ((0, (0, 0, 0), "write"), (0, (9, -9, 1), "read")),
         ((1, (4,), "read"), (2, (0,), "write")),
+    ),
+)
+
+# A ring by three arrays: from 0 to 1 by (0, 0), on to 2 by (0, 1), and back to 0 by (-2, -5).
+TRIANGLE = (
+    2,
+    (((1, 0), (0, 1)),) * 3,
+    (
+        ((0, (0, 0), "write"), (2, (2, 5), "read")),
+        ((0, (0, 0), "read"), (1, (0, 1), "write")),
+        ((1, (0, 0), "read"), (2, (0, 0), "write")),
     ),
 )
 
@@ -64,10 +76,77 @@ class Sequence:
         return tuple(array for array in range(len(program[1])) if self.under(4) > 0)
 
 
+def one_loop(*statements):
+    """A PROGRAM of one loop over arrays with the matrices 1, 2, 3, 4: references are pairs
+    of an array and its one offset."""
+    arrays = (((1,),), ((2,),), ((3,),), ((4,),))
+    return (1, arrays, tuple(tuple((array, (offset,), "read") for array, offset in references)
+                             for references in statements))
+
+
+def samples(start, many, most_factor, most_offset):
+    """Pairs of a PROGRAM and a LOT of it."""
+    numbers = Sequence(start)
+    for _ in range(many):
+        program = numbers.program(numbers.between(1, 3), most_factor, most_offset)
+        yield program, numbers.lot(program)
+
+
 def lots_of(program):
     """All LOTS of a PROGRAM."""
     numbers = range(len(program[1]))
     return [lot for many in range(len(numbers) + 1) for lot in itertools.combinations(numbers, many)]
+
+
+def form_of(modulus, *terms):
+    """A FORM of one loop: each term is a pair of the one integer of a ROW, and a SHIFT."""
+    return modulus, tuple(((factor,), shift) for factor, shift in terms)
+
+
+def number_of(form, one):
+    """The NUMBER of a ROUND, by the words of point 30."""
+    row, shift = form[1][one[0]]
+    whole = sum(factor * part for factor, part in zip(row, one[1])) + shift
+    return whole % form[0] if form[0] else whole
+
+
+def rounds_within(program, box):
+    """All ROUNDS in a BOX."""
+    places = list(itertools.product(*[range(low, high + 1) for low, high in box]))
+    return [(number, place) for number in range(len(program[2])) for place in places]
+
+
+def cells_at(program, lot, one):
+    """The CELLS of arrays of the LOT that a ROUND touches, by the words of point 11."""
+    return {(array, tuple(sum(factor * part for factor, part in zip(row, one[1])) + shift
+                          for row, shift in zip(program[1][array], offset)))
+            for array, offset, _ in program[2][one[0]] if array in lot}
+
+
+def pairs_within(program, lot, box):
+    """All pairs of unlike ROUNDS in a BOX that meet."""
+    at = {}
+    for one in rounds_within(program, box):
+        for cell in cells_at(program, lot, one):
+            at.setdefault(cell, []).append(one)
+    return {pair for those in at.values() for pair in itertools.combinations(those, 2)}
+
+
+def tied_within(program, lot, box):
+    """A dict from each ROUND of a BOX to one of those tied with it by ROUNDS of the BOX."""
+    leads = {one: one for one in rounds_within(program, box)}
+
+    def lead(one):
+        while leads[one] != one:
+            leads[one] = leads[leads[one]]
+            one = leads[one]
+        return one
+
+    first = {}
+    for one in list(leads):
+        for cell in cells_at(program, lot, one):
+            leads[lead(one)] = lead(first.setdefault(cell, one))
+    return {one: lead(one) for one in list(leads)}
 
 
 def check_refused(test, error, field, told, call, *passed):
@@ -92,6 +171,14 @@ def check_told(test, told, call, *passed):
         test.assertIs(given.__class__, told.__class__)
     test.assertEqual(call(*kept), told)
     test.assertEqual([repr(thing) for thing in passed], before)
+
+
+def check_names(test, module, told):
+    """The functions stand in the module, each with these names of arguments."""
+    for name, arguments in told.items():
+        found = getattr(module, name)
+        test.assertEqual(list(inspect.signature(found).parameters), arguments)
+        test.assertEqual(found.__module__, module.__name__)
 
 
 def nested(depth):
@@ -187,3 +274,60 @@ def no_numbers(program):
     """Values that are no number of a statement of a PROGRAM."""
     return (len(program[2]), -1, SIXTY, -SIXTY, True, False, None, "0", "", b"", (), (0,), [0], {},
             object(), nested(50))
+
+
+def in_each(good, bad):
+    """The tuple with each bad value in each of its places."""
+    return tuple(good[:spot] + (thing,) + good[spot + 1:] for spot in range(len(good)) for thing in bad)
+
+
+def no_boxes(program):
+    """Values that are no BOX of a PROGRAM."""
+    box = ((0, 1), (-2, 2), (5, 5))[:program[0]]
+    spans = NO_LISTS + (
+        (), (0,), (0, 1, 2), [0, 1], (1, 0), (SIXTY, SIXTY - 1), (-SIXTY, -SIXTY - 1), (0, True),
+        (False, 0), (True, 1), (None, 0), (0, None), ("0", "1"), ((0,), (1,)), ([], []), nested(49))
+    return NO_LISTS + (
+        (), box[1:], box + ((0, 0),), list(box), (0, 1), nested(50), box * 5000) + in_each(box, spans)
+
+
+def no_terms(depth):
+    """Values that are no pair of a ROW of so many integers and a SHIFT."""
+    row = (2,) * depth
+    rows = NO_LISTS + ((), row[1:], row + (0,), list(row), nested(47)) + in_each(
+        row, (None, True, False, "1", b"1", (1,), [1], {}))
+    return NO_LISTS + (
+        (), (row,), (row, 0, 0), [row, 0], (0, row), (row, True), (row, False), (row, None),
+        (row, "0"), (row, (0,)), (row, [0]), (row, {})) + tuple((thing, 0) for thing in rows)
+
+
+def no_forms(program):
+    """Values that are no FORM of a PROGRAM."""
+    depth, _, statements = program
+    terms = (((1,) * depth, 3),) * len(statements)
+    bad = NO_LISTS + ((), terms[1:], terms + terms[:1], list(terms), nested(49))
+    bad += in_each(terms, no_terms(depth))
+    return NO_LISTS + (
+        (), (0,), (0, terms, 0), [0, terms], (terms, 0), nested(50), (1, terms), (-1, terms), (-2, terms),
+        (10 ** 30 + 1, terms), (-10 ** 30, terms), (SIXTY, terms), (True, terms), (False, terms),
+        (None, terms), ("0", terms), ((0,), terms), ([], terms)) + tuple((0, thing) for thing in bad)
+
+
+def no_dealings(program):
+    """Pairs: a value that is no DEALING of a PROGRAM, and the place of the first thing that
+    is wrong."""
+    depth, _, statements = program
+    good = (5, (((1,) * depth, 3),) * len(statements))
+    cases = [(thing, ()) for thing in NO_LISTS + ([good], {good: good}, (good,) * 14, (None,) * 14)]
+    cases += [((thing,), (0,)) for thing in no_forms(program)]
+    cases += [((good,) * spot + (thing,) + (None,) * (12 - spot), (spot,))
+              for spot in (1, 5, 12) for thing in no_forms(program)[::7]]
+    return cases + [(good, (0,)), (nested(50), (0,)), ((good, good[:1]), (1,))]
+
+
+def no_sides(program):
+    """Values that are no SIDES of a PROGRAM."""
+    sides = (3,) * program[0]
+    return NO_LISTS + (
+        (), sides[1:], sides + (1,), list(sides), nested(50), ((0, 1),) * program[0]) + in_each(
+            sides, (0, 21, -1, SIXTY, True, False, None, "3", (3,), [3], {}))

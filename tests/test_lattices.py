@@ -1,6 +1,5 @@
 """Points 12, 13, 20, 21 and 23: joined statements, groups, lattices, BASIS, ways apart."""
 
-import inspect
 import itertools
 import math
 import unittest
@@ -10,30 +9,10 @@ from owncells.errors import BadLot, BadNumber, BadProgram
 from owncells.lattices import basis, groups, is_step, ways_apart
 from owncells.programs import do_meet
 from tests.samples import (
-    LINE, PLANE, PROGRAMS, SIXTY, SPACE, Sequence, check_refused, check_told, lots_of, no_lots,
-    no_numbers, no_programs)
+    LINE, PLANE, PROGRAMS, SIXTY, SPACE, TRIANGLE, Sequence, check_names, check_refused,
+    check_told, lots_of, no_lots, no_numbers, no_programs, one_loop, samples, tied_within)
 
 READ, WRITE = "read", "write"
-
-
-def one_loop(*statements):
-    """A PROGRAM of one loop over arrays with the matrices 1, 2, 3, 4: references are pairs
-    of an array and its one offset."""
-    arrays = (((1,),), ((2,),), ((3,),), ((4,),))
-    return (1, arrays, tuple(tuple((array, (offset,), READ) for array, offset in references)
-                             for references in statements))
-
-
-# A ring by three arrays: from 0 to 1 by (0, 0), on to 2 by (0, 1), and back to 0 by (-2, -5).
-TRIANGLE = (
-    2,
-    (((1, 0), (0, 1)),) * 3,
-    (
-        ((0, (0, 0), WRITE), (2, (2, 5), READ)),
-        ((0, (0, 0), READ), (1, (0, 1), WRITE)),
-        ((1, (0, 0), READ), (2, (0, 0), WRITE)),
-    ),
-)
 
 
 class TestGroups(unittest.TestCase):
@@ -271,9 +250,11 @@ class TestExactness(unittest.TestCase):
                 (1, -60, (one_loop(((0, 0), (3, 8)), ((0, 0), (1, 0)), ((1, 0), (2, 9)), ((2, 0), (3, 0))),
                           one_loop(((1, 0), (2, 3)), ((1, 2), (2, 9)), ((3, 0),), ((3, 4), (0, 1))))),
                 (2, -15, (PLANE, TRIANGLE,
-                          (2, (((1, 2),), ((2, -1),)), (((0, (0,), READ), (1, (3,), READ)), ((1, (0,), READ),))),
+                          (2, (((1, 2),), ((2, -1),)),
+                          (((0, (0,), READ), (1, (3,), READ)), ((1, (0,), READ),))),
                           (2, (((2, 0), (0, 2)), ((1, 1), (1, -1))),
-                           (((0, (0, 0), READ), (1, (0, 0), READ)), ((0, (2, 4), READ), (1, (1, 1), READ)))))),
+                           (((0, (0, 0), READ), (1, (0, 0), READ)),
+                           ((0, (2, 4), READ), (1, (1, 1), READ)))))),
                 (3, -5, ((3, (((1, 0, 0), (0, 1, 0)), ((1, 1, 1),)),
                           (((0, (0, 0), READ),), ((0, (2, 1), READ), (1, (0,), WRITE)), ((1, (3,), READ),))),
                          (3, (((1, 0, 0), (0, 1, 0), (0, 0, 1)),) * 2,
@@ -284,7 +265,7 @@ class TestExactness(unittest.TestCase):
                     self.check_box(program, lot, low, True)
 
     def check_box(self, program, lot, low, is_whole):
-        hands = hands_in_box(program, lot, low)
+        hands = tied_within(program, lot, ((low, -low),) * program[0])
         told = groups(program, lot)
         self.assertEqual(sorted(itertools.chain(*told)), list(range(len(program[2]))))
         group_of = {statement: group for group in told for statement in group}
@@ -331,12 +312,12 @@ class TestTies(unittest.TestCase):
 
 class TestInterface(unittest.TestCase):
     def test_names_of_arguments(self):
-        for name, told in (("groups", ["program", "lot"]), ("basis", ["program", "lot", "statement"]),
-                           ("ways_apart", ["program", "lot", "statement"]),
-                           ("is_step", ["program", "lot", "statement", "place"])):
-            found = getattr(lattices, name)
-            self.assertEqual(list(inspect.signature(found).parameters), told)
-            self.assertEqual(found.__module__, "owncells.lattices")
+        check_names(self, lattices, {
+            "groups": ["program", "lot"],
+            "basis": ["program", "lot", "statement"],
+            "ways_apart": ["program", "lot", "statement"],
+            "is_step": ["program", "lot", "statement", "place"],
+        })
 
     def test_by_name(self):
         self.assertEqual(groups(lot=(0,), program=LINE), ((0,),))
@@ -354,13 +335,6 @@ def check_wrong_groups(test, call):
             check_refused(test, BadLot, "value", thing, call, program, thing, None)
     for thing, place in no_programs():
         check_refused(test, BadProgram, "place", place, call, thing, None, None)
-
-
-def samples(start, many, most_factor, most_offset):
-    numbers = Sequence(start)
-    for _ in range(many):
-        program = numbers.program(numbers.between(1, 3), most_factor, most_offset)
-        yield program, numbers.lot(program)
 
 
 def determinant(rows):
@@ -387,28 +361,6 @@ def remainder(place, steps):
         times = place[column] // step[column]
         place = tuple(part - times * by for part, by in zip(place, step))
     return place
-
-
-def hands_in_box(program, lot, low):
-    """A dict from each ROUND of a box around 0 to one of those tied with it within the box."""
-    depth, arrays, statements = program
-    places = list(itertools.product(range(low, 1 - low), repeat=depth))
-    leads = {(number, place): (number, place) for number in range(len(statements)) for place in places}
-
-    def lead(one):
-        while leads[one] != one:
-            leads[one] = leads[leads[one]]
-            one = leads[one]
-        return one
-
-    first = {}
-    for one in list(leads):
-        for array, offset, _ in statements[one[0]]:
-            if array in lot:
-                spot = tuple(sum(factor * part for factor, part in zip(row, one[1])) + shift
-                             for row, shift in zip(arrays[array], offset))
-                leads[lead(one)] = lead(first.setdefault((array, spot), one))
-    return {one: lead(one) for one in list(leads)}
 
 
 if __name__ == "__main__":

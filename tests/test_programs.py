@@ -1,15 +1,14 @@
 """Points 0 to 4 and 10 to 12: PROGRAMS, ROUNDS, CELLS, LOTS, and which ROUNDS meet."""
 
 import copy
-import inspect
 import unittest
 
 from owncells import programs
 from owncells.errors import BadLot, BadProgram, BadRound
 from owncells.programs import cells, do_meet, need_program, written
 from tests.samples import (
-    LINE, NO_LISTS, PLANE, PROGRAMS, SIXTY, SPACE, Sequence, check_refused, check_told, lots_of,
-    no_lots, no_programs, no_rounds)
+    LINE, NO_LISTS, PLANE, PROGRAMS, SIXTY, SPACE, Sequence, check_names, check_refused,
+    check_told, lots_of, no_lots, no_programs, no_rounds)
 
 
 class TestNeedProgram(unittest.TestCase):
@@ -220,11 +219,12 @@ class TestWritten(unittest.TestCase):
 
 class TestInterface(unittest.TestCase):
     def test_names_of_arguments(self):
-        for name, told in (("need_program", ["thing"]), ("cells", ["program", "round_at"]),
-                           ("do_meet", ["program", "lot", "one", "other"]), ("written", ["program"])):
-            found = getattr(programs, name)
-            self.assertEqual(list(inspect.signature(found).parameters), told)
-            self.assertEqual(found.__module__, "owncells.programs")
+        check_names(self, programs, {
+            "need_program": ["thing"],
+            "cells": ["program", "round_at"],
+            "do_meet": ["program", "lot", "one", "other"],
+            "written": ["program"],
+        })
 
     def test_a_lot_may_have_all_arrays_or_none(self):
         for program in PROGRAMS:
