@@ -356,6 +356,16 @@ class TestIsFinest(unittest.TestCase):
         alike = tuple((modulus, terms[:2] + terms[1:3]) for modulus, terms in dealing)
         check_told(self, False, is_finest, program, (), alike)
 
+    def test_hands_that_are_shared_far_away(self):
+        # The last FORM gives ROUNDS with the same NUMBERS by the others the same one just
+        # where ten times the integer of the one loop is this by 10 ** 30.
+        program = alone(3, 2)
+        own = tuple((0, ((row, 0), (row, SIXTY))) for row in UNIT)
+        for by, told in ((0, False), (1, True), (5, True), (10, False), (-10, False), (SIXTY, True), (SIXTY * 10, False)):
+            form = (MOST, (((11, 0, 0), 0), ((1, 0, 0), by + 11 * SIXTY)))
+            check_told(self, told, is_finest, program, (), own + (form,))
+            check_told(self, told, is_finest, program, (), (form,) + own)
+
     def test_what_is_not_right_is_not_finest(self):
         check_told(self, False, is_finest, PLANE, (0,), finest(PLANE, ()))
         check_told(self, False, is_finest, PLANE, (0, 1), finest(PLANE, (0,)))
