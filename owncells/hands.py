@@ -1,8 +1,8 @@
 """HEADS, by which tied ROUNDS are known, and how many hands there are."""
 
 from owncells.errors import BadBox, TooGreat
-from owncells.lattices import groups, rings, spread, ties, ways_apart
-from owncells.matrices import hermite, multiplied, plus, reduced
+from owncells.lattices import joined, ties
+from owncells.matrices import hermite, less, multiplied, reduced
 from owncells.programs import is_place, is_tuple, need_lot, need_program, need_round
 
 MOST_ROUNDS = 4000
@@ -24,9 +24,14 @@ def need_box(program, box):
         raise BadBox(box)
 
 
+def many_places(box):
+    """How many PLACES there are in a BOX."""
+    return multiplied([high - low + 1 for low, high in box])
+
+
 def many_rounds(program, box):
     """How many ROUNDS there are in a BOX."""
-    return len(program[2]) * multiplied([high - low + 1 for low, high in box])
+    return len(program[2]) * many_places(box)
 
 
 def need_few_rounds(program, box):
@@ -35,26 +40,13 @@ def need_few_rounds(program, box):
         raise TooGreat(MOST_ROUNDS)
 
 
-def rounds_in(program, box):
-    """A list of all ROUNDS in a BOX, ascending."""
+def places_in(box):
+    """A list of all PLACES in a BOX, ascending."""
     places = [()]
     for low, high in box:
-        places = [place + (part,) for place in places for part in range(low, high + 1)]
-    return [(statement, place) for statement in range(len(program[2])) for place in places]
-
-
-def lead(program, found, statement):
-    """What leads a statement's ROUNDS to their HEADS, by the ties that were found: the
-    statement of these, a PLACE to be added, and the BASIS."""
-    places = spread(program, found, statement)
-    least = min(places)
-    return least, places[least], hermite(rings(places, found))
-
-
-def led(way, place):
-    """The HEAD of the ROUND at the PLACE, of the statement with this lead."""
-    least, step, steps = way
-    return least, reduced(plus(place, step, 1), steps)
+        parts = [(part,) for part in range(low, high + 1)]
+        places = [place + part for place in places for part in parts]
+    return places
 
 
 def head(program, lot, round_at):
@@ -63,23 +55,111 @@ def head(program, lot, round_at):
     need_lot(program, lot)
     need_round(program, round_at)
     statement, place = round_at
-    return led(lead(program, ties(program, lot), statement), place)
+    leads, places, rings = joined(program, ties(program, lot))
+    least = leads[statement]
+    return least, reduced(less(place, places[statement]), hermite(rings[least]))
+
+
+def step_between(places, one, other):
+    """The step from the one ROUND to the other, both led to the least statement of their
+    group by the places of it."""
+    return less(less(other[1], places[other[0]]), less(one[1], places[one[0]]))
 
 
 def are_tied(program, lot, one, other):
     """Whether two ROUNDS are tied."""
-    return head(program, lot, one) == head(program, lot, other)
+    need_program(program)
+    need_lot(program, lot)
+    need_round(program, one)
+    need_round(program, other)
+    leads, places, rings = joined(program, ties(program, lot))
+    least = leads[one[0]]
+    if leads[other[0]] != least:
+        return False
+    return not any(reduced(step_between(places, one, other), hermite(rings[least])))
+
+
+def hands_by(program, found):
+    """How many hands there are of all groups by the ties, or None for endlessly many."""
+    leads, _, rings = joined(program, found)
+    many = 0
+    for statement, least in enumerate(leads):
+        if statement == least:
+            steps = hermite(rings[least])
+            if len(steps) < program[0]:
+                return None
+            # Of as many stepped rows as columns, each has its own column.
+            many = many + multiplied([step[column] for column, step in enumerate(steps)])
+    return many
 
 
 def many_hands(program, lot):
     """How many hands there are of all groups, or None for endlessly many."""
+    need_program(program)
+    need_lot(program, lot)
+    return hands_by(program, ties(program, lot))
+
+
+def turned(row, column):
+    """The row, what was at the column being at the end."""
+    return row[:column] + row[column + 1:] + row[column:column + 1]
+
+
+def add_runs(runs, steps, box):
+    """Adds the hands of all PLACES in a BOX to a dict of runs: from all of a PLACE but the
+    last integer to the spans of this one, each beside the stepped rows."""
+    low, high = box[-1]
+    for place in places_in(box[:-1]):
+        rest = reduced(place + (0,), steps)
+        runs.setdefault(rest[:-1], []).append((low + rest[-1], high + rest[-1]))
+
+
+def folded(spans, modulus):
+    """A list of spans of the remainders by the modulus that the spans have."""
+    found = []
+    for low, high in spans:
+        if high - low + 1 >= modulus:
+            return [(0, modulus - 1)]
+        first, last = low % modulus, high % modulus
+        if first <= last:
+            found.append((first, last))
+        else:
+            found.extend([(0, last), (first, modulus - 1)])
+    return found
+
+
+def many_in(spans):
+    """How many integers there are in spans."""
+    if len(spans) == 1:
+        return spans[0][1] - spans[0][0] + 1
     many = 0
-    for group in groups(program, lot):
-        free, factors = ways_apart(program, lot, group[0])
-        if free > 0:
-            return None
-        many = many + multiplied(factors)
+    ahead = None
+    for low, high in sorted(spans):
+        if ahead is None or low > ahead:
+            many, ahead = many + high - low + 1, high
+        elif high > ahead:
+            many, ahead = many + high - ahead, high
     return many
+
+
+def hands_of(rings, boxes):
+    """How many hands of a group have a ROUND in boxes of its least statement."""
+    steps = hermite(rings)
+    modulus = 0
+    # A step by the last column alone leads from an integer there to all with its remainder.
+    if steps and not any(steps[-1][:-1]):
+        modulus, steps = steps[-1][-1], steps[:-1]
+    runs = {}
+    for box in boxes:
+        add_runs(runs, steps, box)
+    if modulus > 0:
+        return sum([many_in(folded(spans, modulus)) for spans in runs.values()])
+    return sum([many_in(spans) for spans in runs.values()])
+
+
+def moved(box, place):
+    """The BOX less a PLACE."""
+    return tuple([(low - part, high - part) for (low, high), part in zip(box, place)])
 
 
 def hands_in(program, lot, box):
@@ -88,6 +168,13 @@ def hands_in(program, lot, box):
     need_lot(program, lot)
     need_box(program, box)
     need_few_rounds(program, box)
-    found = ties(program, lot)
-    ways = [lead(program, found, statement) for statement in range(len(program[2]))]
-    return len({led(ways[statement], place) for statement, place in rounds_in(program, box)})
+    sides = [high - low for low, high in box]
+    # Runs along the longest side are the fewest.
+    column = sides.index(max(sides))
+    leads, places, rings = joined(program, ties(program, lot))
+    many = 0
+    for least in range(len(leads)):
+        if leads[least] == least:
+            boxes = [turned(moved(box, place), column) for lead, place in zip(leads, places) if lead == least]
+            many = many + hands_of([turned(ring, column) for ring in rings[least]], boxes)
+    return many

@@ -1,89 +1,101 @@
 """Groups of joined statements, and the lattices of the steps between tied ROUNDS.
 
 A *tie* is a triple (ONE, OTHER, STEP): each ROUND of the statement ONE meets that of OTHER
-whose PLACE is its PLACE and STEP together. All ROUNDS that meet do so by ties in a row.
+whose PLACE is its PLACE and STEP together. All tied ROUNDS are so by ties in a row, taken
+forth or back.
 """
 
-from owncells.matrices import (
-    coordinates, divisors, hermite, kernel, plus, reduced, solution, tagged, transposed)
+from owncells.matrices import coordinates, divisors, hermite, less, plus, reduced, transposed, units
 from owncells.programs import is_place, need_lot, need_program, need_statement
 
 
-def uses(program, array):
-    """A list of pairs: the statement and the OFFSET of each reference to the array."""
-    return [(number, reference[1]) for number, references in enumerate(program[2])
-            for reference in references if reference[0] == array]
+def sight(matrix, depth):
+    """A pair of lists of rows that tell what a matrix makes of PLACES: stepped SPOTS with
+    a PLACE behind each that gives it, and stepped PLACES that give nothing."""
+    rows = hermite([column + unit for column, unit in zip(transposed(matrix), units(depth))])
+    many = len(matrix)
+    seen = [row for row in rows if any(row[:many])]
+    return seen, [row[many:] for row in rows[len(seen):]]
 
 
-def ties_by(program, array):
-    """A list of ties by one array: the steps between each two references, and those that
-    keep the cell of one."""
-    matrix = program[1][array]
-    rows = tagged(transposed(matrix))
-    keeping = kernel(rows, len(matrix))
-    near_and_far = uses(program, array)
-    found = []
-    for one, near in near_and_far:
-        found.extend([(one, one, step) for step in keeping])
-        for other, far in near_and_far:
-            step = solution(rows, plus(near, far, -1), program[0])
-            if step is not None:
-                found.append((one, other, step))
-    return found
+def uses(program, lot):
+    """A list of pairs, one for each lot of references that touch common CELLS of an array
+    of the LOT: a list of pairs of a statement and a PLACE, the ROUNDS at these PLACES
+    touching one CELL; and the stepped list of steps that keep it."""
+    depth, arrays, statements = program
+    start = (0,) * depth
+    sights = {array: sight(arrays[array], depth) for array in lot}
+    found = {}
+    for statement, references in enumerate(statements):
+        for array, offset, _ in references:
+            if array in sights:
+                seen, keeping = sights[array]
+                # OFFSETS leave the same rest just if some ROUNDS touch a common CELL.
+                rest = reduced(offset + start, seen)
+                many = len(offset)
+                same, _ = found.setdefault((array, rest[:many]), ([], keeping))
+                same.append((statement, rest[many:]))
+    return list(found.values())
 
 
 def ties(program, lot):
-    """A list of ties by the LOT; for each one there is one that leads back."""
-    return [tie for array in lot for tie in ties_by(program, array)]
+    """A list of ties by the LOT: from the first of all references that touch common CELLS
+    to each other one, and by the steps that keep these CELLS."""
+    found = []
+    for same, keeping in uses(program, lot):
+        one, near = same[0]
+        found.extend([(one, one, step) for step in keeping])
+        found.extend([(one, other, less(far, near)) for other, far in same[1:]])
+    return found
 
 
-def chains(program, found, start):
-    """A dict from each statement of the group of start to a CHAIN: ROUNDS from that of
-    start at (0, ..) to one of this statement, each next one meeting the one ahead."""
-    led = {start: ((start, (0,) * program[0]),)}
-    waiting = [start]
-    while waiting:
-        near = waiting.pop()
-        for one, other, step in found:
-            if one == near and other not in led:
-                led[other] = led[near] + ((other, plus(led[near][-1][1], step, 1)),)
-                waiting.append(other)
-    return led
+def joined(program, found):
+    """What the ties lead to, as three lists. For each statement: the least one of its
+    group; a PLACE of it, whose ROUND is tied with that of the least one at (0, ..); and, if
+    it is a least one, a list of steps, the lattice being all sums of their multiples."""
+    many = len(program[2])
+    leads = list(range(many))
+    places = [(0,) * program[0]] * many
+    rings = [[] for _ in range(many)]
+    for one, other, step in found:
+        least, lead = leads[one], leads[other]
+        around = less(plus(places[one], step, 1), places[other])
+        if least == lead:
+            rings[least].append(around)
+            continue
+        if least > lead:
+            least, lead, around = lead, least, less(places[other], plus(places[one], step, 1))
+        rings[least].extend(rings[lead])
+        for statement in range(many):
+            if leads[statement] == lead:
+                leads[statement] = least
+                places[statement] = plus(places[statement], around, 1)
+    return leads, places, rings
 
 
-def spread(program, found, start):
-    """A dict from each statement of the group of start to a PLACE there: its ROUND is tied
-    with that of start at (0, ..)."""
-    return {statement: chain[-1][1] for statement, chain in chains(program, found, start).items()}
-
-
-def rings(places, found):
-    """A list of the steps of all rings: from a statement's PLACE by a tie, and back."""
-    return [plus(plus(places[one], step, 1), places[other], -1)
-            for one, other, step in found if one in places]
-
-
-def need_group(program, lot, statement):
-    """Raises what is wrong of the arguments that tell a group, the first one first."""
-    need_program(program)
-    need_lot(program, lot)
-    need_statement(program, statement)
+def groups_by(leads):
+    """The ascending tuple of all groups, by the least one of each statement's group."""
+    found = {}
+    for statement, least in enumerate(leads):
+        found.setdefault(least, []).append(statement)
+    return tuple([tuple(group) for group in found.values()])
 
 
 def groups(program, lot):
     """The ascending tuple of all groups."""
     need_program(program)
     need_lot(program, lot)
-    found = ties(program, lot)
-    return tuple(sorted({tuple(sorted(spread(program, found, number)))
-                         for number in range(len(program[2]))}))
+    leads, _, _ = joined(program, ties(program, lot))
+    return groups_by(leads)
 
 
 def basis(program, lot, statement):
     """The BASIS of the lattice of the statement's group."""
-    need_group(program, lot, statement)
-    found = ties(program, lot)
-    return hermite(rings(spread(program, found, statement), found))
+    need_program(program)
+    need_lot(program, lot)
+    need_statement(program, statement)
+    leads, _, rings = joined(program, ties(program, lot))
+    return hermite(rings[leads[statement]])
 
 
 def ways_apart(program, lot, statement):

@@ -12,9 +12,21 @@ def plus(row, step, times):
     return tuple([part + times * by for part, by in zip(row, step)])
 
 
+def less(row, step):
+    """The row less the step."""
+    return tuple([part - by for part, by in zip(row, step)])
+
+
 def weighted(row, place):
     """The sum of the row's integers, each times that of the place."""
     return sum([factor * part for factor, part in zip(row, place)])
+
+
+def remainder(whole, modulus):
+    """The remainder of an integer by a modulus; all of it by 0."""
+    if modulus == 0:
+        return whole
+    return whole % modulus
 
 
 def multiplied(parts):
@@ -27,51 +39,58 @@ def multiplied(parts):
 
 def units(many):
     """So many rows, each with 1 at the column of its own number, and 0 elsewhere."""
-    return tuple([tuple([int(column == number) for column in range(many)]) for number in range(many)])
-
-
-def first_column(row):
-    """The column of the first integer that is not 0, of a row that has one."""
-    column = 0
-    while row[column] == 0:
-        column += 1
-    return column
+    return tuple([(0,) * number + (1,) + (0,) * (many - 1 - number) for number in range(many)])
 
 
 def reduced(row, steps):
     """The row less multiples of stepped rows, so that at the column of each of them it
     has an integer from 0 to less than theirs: all 0 just if the row is a sum of them."""
+    column = 0
     for step in steps:
-        column = first_column(step)
-        row = plus(row, step, -(row[column] // step[column]))
+        # The columns of stepped rows ascend, so each is looked for behind that ahead.
+        while step[column] == 0:
+            column += 1
+        times = row[column] // step[column]
+        if times != 0:
+            row = plus(row, step, -times)
     return row
 
 
 def gathered(rows, column):
-    """A row with the greatest common divisor of the column (0 or above), and rows with 0
-    in it; all together have the same sums of multiples as the rows."""
-    lead = (0,) * len(rows[0])
+    """A row with the greatest common divisor of the column (or its negative; None if all
+    have 0 there), and rows with 0 in it, not all 0; all together have the same sums of
+    multiples as the rows."""
+    lead = None
     rest = []
     for row in rows:
+        if lead is None and row[column] != 0:
+            lead = row
+            continue
         while row[column] != 0:
             lead, row = row, plus(lead, row, -(lead[column] // row[column]))
-        rest.append(row)
-    if lead[column] < 0:
-        lead = tuple([-part for part in lead])
+        if any(row):
+            rest.append(row)
     return lead, rest
+
+
+def signed(row, column):
+    """The row or its negative: the one with an integer above 0 in the column."""
+    if row[column] > 0:
+        return row
+    return tuple([-part for part in row])
 
 
 def hermite(rows):
     """The one tuple of stepped rows with the same sums of multiples as the rows, each
     reduced by those behind it."""
-    if not rows:
-        return ()
     stepped = []
-    rest = list(rows)
-    for column in range(len(rows[0])):
+    rest = rows
+    column = 0
+    while rest:
         lead, rest = gathered(rest, column)
-        if lead[column] != 0:
-            stepped.append(lead)
+        if lead is not None:
+            stepped.append(signed(lead, column))
+        column += 1
     steps = ()
     for row in reversed(stepped):
         steps = (reduced(row, steps),) + steps
@@ -80,42 +99,26 @@ def hermite(rows):
 
 def transposed(rows):
     """The columns of the rows, as rows."""
-    return tuple([tuple([row[column] for row in rows]) for column in range(len(rows[0]))])
-
-
-def tagged(rows):
-    """Stepped rows: sums of multiples of the rows, and behind each how often each of the
-    rows is taken in it. They tell all sums, and how these are made."""
-    return hermite([row + unit for row, unit in zip(rows, units(len(rows)))])
-
-
-def kernel(rows, many):
-    """A list of all that stands behind the many integers of rows with only 0 among these.
-    (Of tagged rows: how to take the rows so that there is nothing in all.)"""
-    return [row[many:] for row in rows if not any(row[:many])]
-
-
-def solution(rows, wanted, many):
-    """How often to take each of many rows so that what is wanted comes out, by these rows
-    as they are tagged; None if there is no way."""
-    rest = reduced(wanted + (0,) * many, rows)
-    if any(rest[:len(wanted)]):
-        return None
-    return tuple([-part for part in rest[len(wanted):]])
+    return list(zip(*rows))
 
 
 def agreeing(rows, weights, modulus):
-    """Stepped rows: their sums are all sums of multiples of the rows that give 0 by the
-    weights, or a multiple of the modulus, if that is not 0."""
-    given = [(weighted(weights, row),) + row for row in rows]
-    _, rest = gathered(given + [(modulus,) + (0,) * len(weights)], 0)
+    """Stepped rows: their sums are all sums of multiples of the stepped rows that give 0 by
+    the weights, or a multiple of the modulus, if that is not 0."""
+    given = [remainder(weighted(weights, row), modulus) for row in rows]
+    if not any(given):
+        return rows
+    led = [(part,) + row for part, row in zip(given, rows)]
+    _, rest = gathered([(modulus,) + (0,) * len(weights)] + led, 0)
     return hermite([row[1:] for row in rest])
 
 
 def is_diagonal(rows):
-    """Whether each row has integers other than 0 only at the column of its own number."""
-    return all([part == 0 for number, row in enumerate(rows)
-                for column, part in enumerate(row) if column != number])
+    """Whether each of stepped rows has just one integer, at the column of its own number."""
+    for number, row in enumerate(rows):
+        if any(row[number + 1:]):
+            return False
+    return True
 
 
 def coordinates(rows, many):

@@ -1,9 +1,10 @@
 """PAPERS, which show that two ROUNDS are tied, or apart."""
 
 from owncells.errors import BadPaper
-from owncells.forms import do_agree, finest, is_form, number_by
-from owncells.lattices import chains, ties
-from owncells.matrices import hermite, plus, reduced, solution, tagged
+from owncells.forms import do_agree, group_form, is_form, number_by, step_form
+from owncells.hands import step_between
+from owncells.lattices import joined, ties
+from owncells.matrices import coordinates, hermite, less, plus, reduced, remainder, weighted
 from owncells.programs import (
     have_common, is_integer, is_round, is_tuple, need_lot, need_program, need_round, touched_of)
 
@@ -16,63 +17,90 @@ def need_rounds(program, lot, one, other):
     need_round(program, other)
 
 
-def moved(round_at, step):
-    """The ROUND of the same statement a step on."""
-    statement, place = round_at
-    return statement, plus(place, step, 1)
-
-
 def end(rounds):
     """The PLACE of the last ROUND."""
     return rounds[-1][1]
 
 
-def ring(led, tie):
-    """A RING: by chains to the one statement of the tie, by the tie, and by chains back."""
-    one, other, step = tie
-    around = plus(plus(end(led[one]), step, 1), end(led[other]), -1)
-    return led[one] + tuple([moved(round_at, around) for round_at in reversed(led[other])])
+def chains(program, found, start):
+    """A dict from each statement of the group of start to a CHAIN: ROUNDS from that of
+    start at (0, ..) to one of this statement, each next one meeting the one ahead."""
+    led = {start: ((start, (0,) * program[0]),)}
+    waiting = [start]
+    while waiting:
+        near = waiting.pop()
+        for one, other, step in found:
+            if one == near and other not in led:
+                led[other] = led[near] + ((other, plus(end(led[near]), step, 1)),)
+                waiting.append(other)
+            elif other == near and one not in led:
+                led[one] = led[near] + ((one, less(end(led[near]), step)),)
+                waiting.append(one)
+    return led
 
 
-def few_rings(led, found):
-    """A list of RINGS, of whose steps those of all others are sums of multiples."""
+def ring(led, tie, around):
+    """A RING: by chains to the one statement of the tie, by the tie, and by chains back,
+    which is a step around in all."""
+    one, other, _ = tie
+    back = [(statement, plus(place, around, 1)) for statement, place in reversed(led[other])]
+    return led[one] + tuple(back)
+
+
+def taken_rings(led, found, rest):
+    """RINGS of which the rest is the sum, each with how often it is taken, or None if it is
+    a sum of none."""
+    depth = len(rest)
     few = []
     steps = ()
+    left = rest
     for tie in found:
-        if tie[0] in led:
-            way = ring(led, tie)
-            if any(reduced(end(way), steps)):
-                few.append(way)
-                steps = hermite(steps + (end(way),))
-    return few
+        one, other, step = tie
+        if one in led and any(left[:depth]):
+            around = less(plus(end(led[one]), step, 1), end(led[other]))
+            if any(reduced(around + (0,) * len(few), steps)[:depth]):
+                # Behind each of the steps stands how often each of the few rings is in it.
+                steps = hermite([row + (0,) for row in steps] + [around + (0,) * len(few) + (1,)])
+                few.append(ring(led, tie, around))
+                left = reduced(rest + (0,) * len(few), steps)
+    if any(left[:depth]):
+        return None
+    return tuple([(way, -times) for way, times in zip(few, left[depth:]) if times != 0])
 
 
-def tied_paper(led, found, one, other):
-    """The PAPER that both ROUNDS are tied, by chains from the one's statement, or None."""
+def tied_paper(program, found, one, other):
+    """The PAPER that both ROUNDS are tied, or None."""
+    led = chains(program, found, one[0])
     if other[0] not in led:
         return None
     chain = led[other[0]]
-    few = few_rings(led, found)
-    rest = plus(plus(other[1], one[1], -1), end(chain), -1)
-    taken = solution(tagged([end(way) for way in few]), rest, len(few))
+    taken = taken_rings(led, found, less(less(other[1], one[1]), end(chain)))
     if taken is None:
         return None
-    return "tied", chain, tuple([(way, times) for way, times in zip(few, taken) if times != 0])
+    return "tied", chain, taken
 
 
-def apart_paper(program, lot, one, other):
+def apart_paper(program, found, one, other):
     """The PAPER that both ROUNDS are apart, of two that are."""
-    apart = [form for form in finest(program, lot) if number_by(form, one) != number_by(form, other)]
-    return "apart", apart[0]
+    parts = joined(program, found)
+    leads, places, rings = parts
+    least = leads[one[0]]
+    if leads[other[0]] != least:
+        return "apart", group_form(program, leads)
+    step = step_between(places, one, other)
+    ways = [way for way in coordinates(hermite(rings[least]), program[0])
+            if remainder(weighted(way[1], step), way[0]) != 0]
+    factor, row = ways[0]
+    return "apart", step_form(program, parts, least, factor, row)
 
 
 def paper(program, lot, one, other):
     """A PAPER on whether two ROUNDS are tied."""
     need_rounds(program, lot, one, other)
     found = ties(program, lot)
-    told = tied_paper(chains(program, found, one[0]), found, one, other)
+    told = tied_paper(program, found, one, other)
     if told is None:
-        return apart_paper(program, lot, one, other)
+        return apart_paper(program, found, one, other)
     return told
 
 

@@ -38,22 +38,38 @@ def is_few(thing, most):
 
 def is_row(thing, many, most):
     """Whether it is a tuple of so many integers, none of them farther from 0 than most."""
-    return is_tuple(thing, many) and all([is_between(part, -most, most) for part in thing])
+    if not isinstance(thing, tuple) or len(thing) != many:
+        return False
+    for part in thing:
+        # Each integer that is passed comes by here, so this asks no further function.
+        if not isinstance(part, int) or part is True or part is False or not -most <= part <= most:
+            return False
+    return True
 
 
 def is_place(thing, depth):
     """Whether it is a PLACE."""
-    return is_tuple(thing, depth) and all([is_integer(part) for part in thing])
+    if not isinstance(thing, tuple) or len(thing) != depth:
+        return False
+    for part in thing:
+        if not isinstance(part, int) or part is True or part is False:
+            return False
+    return True
 
 
 def is_matrix(thing, depth):
     """Whether it is the matrix of an array."""
-    return is_few(thing, MOST_ROWS) and all([is_row(row, depth, MOST_FACTOR) for row in thing])
+    if not is_few(thing, MOST_ROWS):
+        return False
+    for row in thing:
+        if not is_row(row, depth, MOST_FACTOR):
+            return False
+    return True
 
 
 def is_reference(thing, arrays):
     """Whether it is a reference to one of these arrays."""
-    if not is_tuple(thing, 3):
+    if not isinstance(thing, tuple) or len(thing) != 3:
         return False
     array, offset, kind = thing
     if not is_number(array, len(arrays)):
@@ -71,34 +87,45 @@ def wrong_in_statement(thing, arrays):
     return None
 
 
-def need_arrays(depth, arrays):
-    """Raises BadProgram if they are no ARRAYS."""
+def wrong_in_arrays(depth, arrays):
+    """The place of the first thing that is wrong, or None for ARRAYS."""
     if not is_few(arrays, MOST_THINGS):
-        raise BadProgram((1,))
+        return (1,)
     for number, matrix in enumerate(arrays):
         if not is_matrix(matrix, depth):
-            raise BadProgram((1, number))
+            return 1, number
+    return None
 
 
-def need_statements(arrays, statements):
-    """Raises BadProgram if they are no STATEMENTS over these arrays."""
+def wrong_in_statements(arrays, statements):
+    """The place of the first thing that is wrong, or None for STATEMENTS over the arrays."""
     if not is_few(statements, MOST_THINGS):
-        raise BadProgram((2,))
+        return (2,)
     for number, references in enumerate(statements):
         wrong = wrong_in_statement(references, arrays)
         if wrong is not None:
-            raise BadProgram((2, number) + wrong)
+            return (2, number) + wrong
+    return None
+
+
+def wrong_in_program(thing):
+    """The place of the first thing that is wrong, or None for a PROGRAM."""
+    if not is_tuple(thing, 3):
+        return ()
+    depth, arrays, statements = thing
+    if not is_between(depth, 1, MOST_DEPTH):
+        return (0,)
+    wrong = wrong_in_arrays(depth, arrays)
+    if wrong is not None:
+        return wrong
+    return wrong_in_statements(arrays, statements)
 
 
 def need_program(thing):
     """The PROGRAM itself; BadProgram tells the place of the first thing that is wrong."""
-    if not is_tuple(thing, 3):
-        raise BadProgram(())
-    depth, arrays, statements = thing
-    if not is_between(depth, 1, MOST_DEPTH):
-        raise BadProgram((0,))
-    need_arrays(depth, arrays)
-    need_statements(arrays, statements)
+    wrong = wrong_in_program(thing)
+    if wrong is not None:
+        raise BadProgram(wrong)
     return thing
 
 

@@ -1,25 +1,65 @@
 """What is sent with a DEALING in a BOX, and how many pairs of ROUNDS a FORM breaks."""
 
-from owncells.errors import BadBox, BadForm, TooGreat
-from owncells.forms import hand_by, need_dealing, need_form, number_by, rest_of
-from owncells.hands import need_box, need_few_rounds, rounds_in
-from owncells.matrices import multiplied
-from owncells.programs import have_common, is_between, is_tuple, need_lot, need_program, touched_of
-
-MOST_SIDE = 20
-MOST_STEPS = 5000
+from owncells.errors import BadForm
+from owncells.forms import are_alike, need_dealing, need_form
+from owncells.hands import many_places, need_box, need_few_rounds
+from owncells.matrices import remainder, weighted
+from owncells.meetings import meetings, need_few_steps, need_sides
+from owncells.programs import need_lot, need_program
 
 
-def hands_at(program, lot, dealing, box):
-    """A dict from each CELL of an array of the LOT that is touched in the BOX to a dict of
-    the HANDS of the ROUNDS there that touch it."""
+def numbers_in(row, shift, box):
+    """A list of what a row and a shift make of all PLACES in a BOX, ascending."""
+    numbers = [shift]
+    for factor, (low, high) in zip(row, box):
+        parts = [factor * part for part in range(low, high + 1)]
+        numbers = [number + part for number in numbers for part in parts]
+    return numbers
+
+
+def spots_in(matrix, offset, box):
+    """A list of the SPOTS that a reference touches from all PLACES in a BOX, ascending."""
+    columns = [numbers_in(row, shift, box) for row, shift in zip(matrix, offset)]
+    return list(zip(*columns))
+
+
+def hands_from(dealing, statement, box):
+    """A list of the HANDS of a statement's ROUNDS at all PLACES in a BOX, ascending."""
+    columns = []
+    for modulus, terms in dealing:
+        row, shift = terms[statement]
+        columns.append([remainder(whole, modulus) for whole in numbers_in(row, shift, box)])
+    if not columns:
+        return [()] * many_places(box)
+    return list(zip(*columns))
+
+
+def touches(program, lot, box):
+    """A list of pairs, one for each reference to an array of the LOT: its statement, and a
+    list of the CELLS that it touches from all PLACES in a BOX, ascending."""
+    _, arrays, statements = program
+    return [(statement, [(array, spot) for spot in spots_in(arrays[array], offset, box)])
+            for statement, references in enumerate(statements)
+            for array, offset, _ in references if array in lot]
+
+
+def hands_at(program, touched, dealing, box):
+    """A dict from each CELL that is touched in the BOX, as touches told, to a dict of the
+    HANDS of the ROUNDS there that touch it."""
+    hands = [hands_from(dealing, statement, box) for statement in range(len(program[2]))]
     found = {}
-    for round_at in rounds_in(program, box):
-        told = hand_by(dealing, round_at)
-        for cell in touched_of(program, lot, round_at):
-            hands = found.setdefault(cell, {})
-            hands[told] = True
+    for statement, cells in touched:
+        for cell, told in zip(cells, hands[statement]):
+            if cell in found:
+                found[cell][told] = True
+            else:
+                found[cell] = {told: True}
     return found
+
+
+def many_sent(holders):
+    """How often CELLS are sent, all together, by the dict of those that hands_at told."""
+    return sum([len(hands) for hands in holders.values()]) - len(holders)
 
 
 def need_dealt(program, lot, dealing, box):
@@ -34,53 +74,31 @@ def need_dealt(program, lot, dealing, box):
 def shared(program, lot, dealing, box):
     """The ascending tuple of the CELLS of arrays of the LOT that are shared."""
     need_dealt(program, lot, dealing, box)
-    found = hands_at(program, lot, dealing, box)
+    found = hands_at(program, touches(program, lot, box), dealing, box)
     return tuple(sorted([cell for cell, hands in found.items() if len(hands) > 1]))
 
 
 def sent(program, lot, dealing, box):
     """How often CELLS of arrays of the LOT are sent, all together."""
     need_dealt(program, lot, dealing, box)
-    return sum([len(hands) - 1 for hands in hands_at(program, lot, dealing, box).values()])
+    return many_sent(hands_at(program, touches(program, lot, box), dealing, box))
 
 
-def has_even_rows(program, form):
+def has_even_rows(form):
     """Whether a FORM is even."""
-    return all([rest_of(form, statement) == rest_of(form, 0) for statement in range(len(program[2]))])
+    modulus, terms = form
+    first = terms[0][0]
+    for row, _ in terms:
+        if not are_alike(row, first, modulus):
+            return False
+    return True
 
 
 def is_even(program, form):
     """Whether a FORM is even."""
     need_program(program)
     need_form(program, form)
-    return has_even_rows(program, form)
-
-
-def need_sides(program, sides):
-    """Raises BadBox if they are no SIDES."""
-    if not is_tuple(sides, program[0]) or not all([is_between(side, 1, MOST_SIDE) for side in sides]):
-        raise BadBox(sides)
-
-
-def need_few_steps(sides):
-    """Raises TooGreat if ROUNDS in a BOX differ by more steps than are gone through."""
-    if multiplied([2 * side - 1 for side in sides]) > MOST_STEPS:
-        raise TooGreat(MOST_STEPS)
-
-
-def meetings(program, lot, sides):
-    """A list of triples: a ROUND at (0, ..), a greater one that it meets, and how many pairs
-    of ROUNDS in a BOX with these SIDES are both moved alike."""
-    start = (0,) * program[0]
-    near = [touched_of(program, lot, (one, start)) for one in range(len(program[2]))]
-    found = []
-    for other, step in rounds_in(program, [(1 - side, side - 1) for side in sides]):
-        far = touched_of(program, lot, (other, step))
-        many = multiplied([side - abs(part) for side, part in zip(sides, step)])
-        for one in range(other + 1):
-            if (one, start) < (other, step) and have_common(near[one], far):
-                found.append(((one, start), (other, step), many))
-    return found
+    return has_even_rows(form)
 
 
 def meeting_pairs(program, lot, sides):
@@ -89,7 +107,7 @@ def meeting_pairs(program, lot, sides):
     need_lot(program, lot)
     need_sides(program, sides)
     need_few_steps(sides)
-    return sum([many for _, _, many in meetings(program, lot, sides)])
+    return sum([many for _, _, _, many in meetings(program, lot, sides)])
 
 
 def broken_pairs(program, lot, form, sides):
@@ -97,9 +115,10 @@ def broken_pairs(program, lot, form, sides):
     need_program(program)
     need_lot(program, lot)
     need_form(program, form)
-    if not has_even_rows(program, form):
+    if not has_even_rows(form):
         raise BadForm(form)
     need_sides(program, sides)
     need_few_steps(sides)
-    return sum([many for one, other, many in meetings(program, lot, sides)
-                if number_by(form, one) != number_by(form, other)])
+    modulus, terms = form
+    return sum([many for one, other, step, many in meetings(program, lot, sides)
+                if remainder(weighted(terms[0][0], step) + terms[other][1] - terms[one][1], modulus) != 0])

@@ -5,8 +5,8 @@ import unittest
 from owncells import forms
 from owncells.errors import BadDealing, BadForm, BadLot, BadProgram, BadRound
 from owncells.forms import does_keep, finest, hand, is_finest, is_right, number
-from owncells.hands import head, lead, led
-from owncells.lattices import groups, ties, ways_apart
+from owncells.hands import head
+from owncells.lattices import groups, ways_apart
 from tests.samples import (
     LINE, PLANE, PROGRAMS, SIXTY, TRIANGLE, Sequence, check_names, check_refused, check_told,
     form_of, lots_of, no_dealings, no_forms, no_lots, no_programs, no_rounds, number_of,
@@ -309,6 +309,18 @@ class TestIsFinest(unittest.TestCase):
         near = (4, (((1, 2), 0), ((1, 2), 1))), (4, (((2, 1), 0), ((2, 1), 2)))
         check_told(self, False, is_finest, program, (), near)
 
+    def test_forms_that_leave_no_place_at_all(self):
+        # By the first two both PLACES are 0 for the same HAND, but then the third tells more.
+        program = alone(1, 2)
+        dealing = form_of(0, (1, 0), (1, 0)), form_of(0, (1, 0), (2, 0)), form_of(0, (1, 1), (3, 0))
+        check_told(self, True, is_finest, program, (), dealing)
+        check_told(self, True, is_finest, program, (), dealing[::-1])
+        check_told(self, False, is_finest, program, (), dealing[:2])
+        check_told(self, False, is_finest, program, (), dealing[1:])
+        check_told(self, True, is_finest, program, (), dealing + (form_of(2, (1, 0), (1, 0)),) * 10)
+        shifted = dealing[:2] + (form_of(0, (1, 3), (3, 3)),)
+        check_told(self, False, is_finest, program, (), shifted)
+
     def test_one_group_of_several_statements(self):
         program = one_loop(((0, 0), (0, 6)), ((0, 1),), ((1, 0), (0, 3)))
         check_told(self, True, is_finest, program, (0,), (form_of(6, (1, 0), (1, 1), (1, 3)),))
@@ -361,7 +373,8 @@ class TestIsFinest(unittest.TestCase):
         # where ten times the integer of the one loop is this by 10 ** 30.
         program = alone(3, 2)
         own = tuple((0, ((row, 0), (row, SIXTY))) for row in UNIT)
-        for by, told in ((0, False), (1, True), (5, True), (10, False), (-10, False), (SIXTY, True), (SIXTY * 10, False)):
+        for by, told in ((0, False), (1, True), (5, True), (10, False), (-10, False), (SIXTY, True),
+                         (SIXTY * 10, False)):
             form = (MOST, (((11, 0, 0), 0), ((1, 0, 0), by + 11 * SIXTY)))
             check_told(self, told, is_finest, program, (), own + (form,))
             check_told(self, told, is_finest, program, (), (form,) + own)
@@ -446,13 +459,13 @@ def some_dealing(numbers, program, lot):
 
 def tells_tied_apart(program, lot, dealing, wide):
     """Whether ROUNDS of a box with the same HAND have the same HEAD."""
-    found = ties(program, lot)
-    ways = [lead(program, found, statement) for statement in range(len(program[2]))]
     heads = {}
     for one in rounds_within(program, ((-wide, wide),) * program[0]):
         told = tuple(number_of(form, one) for form in dealing)
-        heads.setdefault(told, set()).add(led(ways[one[0]], one[1]))
-    return all(len(those) == 1 for those in heads.values())
+        lead = head(program, lot, one)
+        if heads.setdefault(told, lead) != lead:
+            return False
+    return True
 
 
 if __name__ == "__main__":

@@ -239,6 +239,32 @@ class TestHandsIn(unittest.TestCase):
                     told = len({leads[one] for one in rounds_within(program, box)})
                     check_told(self, told, hands_in, program, lot, box)
 
+    def test_as_the_heads_of_all_rounds_say(self):
+        # Boxes that are long by one loop or another, with hands of several statements.
+        numbers = Sequence(35)
+        found = set()
+        for program, lot in samples(36, 250, 3, 6):
+            sides = [numbers.between(1, (0, 30, 8, 5)[program[0]]) for _ in range(program[0])]
+            lows = [numbers.between(-20, 20) for _ in sides]
+            box = tuple((low, low + side - 1) for low, side in zip(lows, sides))
+            told = len({head(program, lot, one) for one in rounds_within(program, box)})
+            check_told(self, told, hands_in, program, lot, box)
+            found.add((told, len(groups(program, lot)), sides.index(max(sides))))
+        self.assertGreater(len(found), 100)
+
+    def test_spans_that_lie_beside_one_another_or_apart(self):
+        # The second statement has the hands of the first one 9 further on, or 18.
+        for offsets, box, told in (
+                ((0, 9), ((0, 3),), 8), ((0, 9), ((0, 8),), 18), ((0, 9), ((0, 9),), 19), ((9, -9), ((0, 17),), 36),
+                ((9, -9), ((0, 30),), 49), ((-9, 9), ((0, 0),), 2), ((5, 5), ((-3, 7),), 11)):
+            check_told(self, told, hands_in, one_loop(((0, offsets[0]),), ((0, offsets[1]),)), (0,), box)
+        # The same by remainders: array 1 makes steps of ten, so there are ten hands.
+        for offset, box, told in ((7, ((0, 2),), 6), (7, ((2, 4),), 6), (7, ((8, 10),), 6), (7, ((0, 5),), 9),
+                                  (7, ((0, 6),), 10), (1, ((-4, 0),), 6), (0, ((4, 12),), 9), (-5, ((0, 9),), 10)):
+            first = ((0, (0,), READ), (1, (5,), READ), (1, (-5,), READ))
+            program = (1, (((1,),), ((1,),)), (first, ((0, (offset,), READ),)))
+            check_told(self, told, hands_in, program, (0, 1), box)
+
     def test_wherever_the_box_begins(self):
         for program, lot in samples(34, 80, 4, 9):
             box = ((0, 2), (0, 1), (0, 2))[:program[0]]

@@ -296,18 +296,21 @@ class TestExactness(unittest.TestCase):
 
 
 class TestTies(unittest.TestCase):
-    def test_rounds_meet_by_each_tie_and_by_one_that_leads_back(self):
+    def test_rounds_meet_by_each_tie(self):
         for program, lot in samples(25, 150, 4, 9):
-            start = (0,) * program[0]
-            found = lattices.ties(program, lot)
-            for one, other, step in found:
+            start, far = (0,) * program[0], (SIXTY,) * program[0]
+            for one, other, step in lattices.ties(program, lot):
                 self.assertTrue(do_meet(program, lot, (one, start), (other, step)))
-                self.assertTrue(any(back[:2] == (other, one) for back in found))
+                moved = tuple(part + by for part, by in zip(far, step))
+                self.assertTrue(do_meet(program, lot, (one, far), (other, moved)))
 
     def test_places_of_a_group_are_those_of_tied_rounds(self):
-        found = lattices.ties(TRIANGLE, (0, 1))
-        self.assertEqual(lattices.spread(TRIANGLE, found, 0), {0: (0, 0), 1: (0, 0), 2: (0, 1)})
-        self.assertEqual(lattices.spread(TRIANGLE, found, 2), {2: (0, 0), 1: (0, -1), 0: (0, -1)})
+        for lot, first, told in (
+                ((), [0, 1, 2], [(0, 0), (0, 0), (0, 0)]), ((0, 1), [0, 0, 0], [(0, 0), (0, 0), (0, 1)]),
+                ((2,), [0, 1, 0], [(0, 0), (0, 0), (2, 5)]), ((1, 2), [0, 0, 0], [(0, 0), (2, 4), (2, 5)])):
+            leads, places, rings = lattices.joined(TRIANGLE, lattices.ties(TRIANGLE, lot))
+            self.assertEqual((leads, places), (first, told))
+            self.assertFalse(any(any(ring) for found in rings for ring in found))
 
 
 class TestInterface(unittest.TestCase):
