@@ -331,3 +331,50 @@ def no_sides(program):
     return NO_LISTS + (
         (), sides[1:], sides + (1,), list(sides), nested(50), ((0, 1),) * program[0]) + in_each(
             sides, (0, 21, -1, SIXTY, True, False, None, "3", (3,), [3], {}))
+
+
+def no_wanted():
+    """Values that are not WANTED."""
+    return (0, -1, 10 ** 9 + 1, SIXTY, -SIXTY, True, False, "", "1", b"", (), (1,), [], [1], {}, set(), object(),
+            nested(50))
+
+
+def no_rows(program):
+    """Values that are no ROW of a PROGRAM."""
+    row = (20,) * program[0]
+    return NO_LISTS + ((), row[1:], row + (0,), list(row), (row,), nested(50)) + in_each(
+        row, (21, -21, SIXTY, True, False, None, "3", b"", (3,), [3], {}))
+
+
+def no_moduli(low, high):
+    """Values that are no integer from low to high."""
+    return (low - 1, high + 1, 0, 1, -low, SIXTY, True, False, None, "", str(low), b"", (), (low,), [low], {}, set(),
+            object(), nested(50))
+
+
+def no_plans():
+    """Pairs: a value that is no PLAN, and the place of the first thing that is wrong."""
+    phase = (LINE, ((), (form_of(2, (1, 0)),)), ((0, 3),))
+    cases = [(thing, ()) for thing in NO_LISTS + ((), [phase], (phase,) * 5, {phase: phase}, (None,) * 5)]
+    for at in range(4):
+        for wrong, place in no_phases(phase):
+            ahead, behind = (phase,) * at, (phase, None, phase)[:3 - at]
+            cases.append((ahead + (wrong,) + behind, (at,) + place))
+    return cases
+
+
+def no_phases(phase):
+    """Pairs: a value that is no phase, and the way to the first thing that is wrong."""
+    program, dealings, box = phase
+    cases = [(thing, ()) for thing in NO_LISTS + (
+        (), phase[:2], phase + (0,), list(phase), (phase,), nested(48), phase * 2)]
+    # All that stands behind is wrong, too.
+    cases += [((thing, None, None), (0,)) for thing, _ in no_programs()[::9]]
+    cases += [((program, thing, None), (1,)) for thing in NO_LISTS + (
+        (), ((),) * 5, [()], {(): ()}, (None,) * 5)]
+    cases += [((program, dealings[:1] * number + (thing,) + (None,) * (3 - number), None), (1, number))
+              for number in range(4) for thing, _ in no_dealings(program)[::11]]
+    cases += [((program, dealings, thing), (2,)) for thing in no_boxes(program)]
+    cases += [((program, dealings, thing), (2,)) for thing in (((0, 1000),), ((-SIXTY, SIXTY),))]
+    cases += [((PLANE, ((),), ((0, 0), (0, low))), (2,)) for low in (333, 1000)]
+    return cases
